@@ -1,0 +1,77 @@
+"""A few rules of the language that a plain look can check."""
+
+import ast
+import unittest
+from pathlib import Path
+
+PACKAGE = Path(__file__).resolve().parent.parent / "termstream"
+OUTSIDE = {"math": {"gcd", "lcm", "isqrt", "comb", "perm", "factorial"}}
+TAKE_LISTS = ("any", "all", "sum", "min", "max", "sorted")
+
+
+def files():
+    return sorted(PACKAGE.glob("*.py"))
+
+
+def nodes(*kinds):
+    for file in files():
+        for node in ast.walk(ast.parse(file.read_text())):
+            if isinstance(node, kinds):
+                yield file.name, node
+
+
+class Language(unittest.TestCase):
+    def test_the_folder_holds_nothing_else(self):
+        others = [file.name for file in PACKAGE.iterdir() if file.suffix != ".py"]
+        self.assertEqual([name for name in others if name != "__pycache__"], [])
+
+    def test_signs_and_sizes(self):
+        for file in files():
+            text = file.read_text()
+            self.assertTrue(all(sign == "\n" or " " <= sign <= "~" for sign in text), file.name)
+            lines = text.splitlines()
+            self.assertLessEqual(len(lines), 399, file.name)
+            self.assertLessEqual(max(len(line) for line in lines), 120, file.name)
+
+    def test_functions_are_small(self):
+        for name, node in nodes(ast.FunctionDef):
+            self.assertLessEqual(node.end_lineno - node.lineno + 1, 40, (name, node.name))
+            self.assertEqual(node.decorator_list, [], (name, node.name))
+
+    def test_imports(self):
+        self.assertEqual(list(nodes(ast.Import)), [])
+        for name, node in nodes(ast.ImportFrom):
+            self.assertEqual(node.level, 0)
+            for part in node.names:
+                self.assertIsNone(part.asname)
+                if node.module in OUTSIDE:
+                    self.assertIn(part.name, OUTSIDE[node.module])
+                    continue
+                self.assertTrue(node.module.startswith("termstream."), name)
+                tree = ast.parse((PACKAGE / (node.module.partition(".")[2] + ".py")).read_text())
+                defined = [line.name for line in tree.body if isinstance(line, (ast.FunctionDef, ast.ClassDef))]
+                defined += [line.targets[0].id for line in tree.body if isinstance(line, ast.Assign)]
+                self.assertIn(part.name, defined)
+
+    def test_no_floats_no_slash_no_percent_sign(self):
+        for name, node in nodes(ast.Constant):
+            self.assertNotIsInstance(node.value, (float, complex), name)
+            if isinstance(node.value, str):
+                self.assertNotIn("%", node.value, name)
+        self.assertEqual(list(nodes(ast.Div)), [])
+
+    def test_lists_are_handed_in_where_a_class_may_compare(self):
+        for name, node in nodes(ast.Call):
+            if isinstance(node.func, ast.Name) and node.func.id in TAKE_LISTS:
+                self.assertFalse(any(isinstance(part, ast.GeneratorExp) for part in node.args), name)
+
+    def test_no_local_name_hides_an_import_or_a_function(self):
+        for file in files():
+            tree = ast.parse(file.read_text())
+            top = {part.name for line in tree.body if isinstance(line, ast.ImportFrom) for part in line.names}
+            top |= {line.name for line in tree.body if isinstance(line, (ast.FunctionDef, ast.ClassDef))}
+            for node in ast.walk(tree):
+                if isinstance(node, ast.arg):
+                    self.assertNotIn(node.arg, top, file.name)
+                if isinstance(node, ast.Name) and isinstance(node.ctx, ast.Store):
+                    self.assertNotIn(node.id, top, file.name)
