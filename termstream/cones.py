@@ -20,6 +20,11 @@ def cone(terms, manner="floor"):
     need_beginning(terms, manner)
     if len(terms) == 0:
         raise NoRow(terms)
+    return cone_behind(terms, manner)
+
+
+def cone_behind(terms, manner):
+    """The cone behind what is known to be a beginning with one term or more."""
     # Behind the first term alone the rest is as free as behind any great one.
     last = terms[-1] if len(terms) > 1 else None
     if manner == "near":

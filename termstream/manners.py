@@ -59,33 +59,46 @@ def is_row(thing, manner="floor"):
     return is_beginning(thing, manner) and ends_well(thing, manner)
 
 
+def first_terms(fraction, many, manner):
+    """The first many terms of the fraction's row, and whether they are all of it."""
+    top, bottom = fraction
+    terms = []
+    while len(terms) < many:
+        term = first_term(top, bottom, manner)
+        terms.append(term)
+        left = top - term * bottom
+        if left == 0:
+            return (terms, True)
+        if manner == "ceil":
+            left = -left
+        top, bottom = lowest(bottom, left)
+    return (terms, False)
+
+
 def row_of(fraction, manner="floor"):
     """The fraction's row in the manner, a list."""
     need_manner(manner)
     need_fractions(fraction)
-    top, bottom = fraction
-    row = []
-    while len(row) < MOST_TERMS:
-        term = first_term(top, bottom, manner)
-        row.append(term)
-        left = top - term * bottom
-        if left == 0:
-            return row
-        if manner == "ceil":
-            left = -left
-        top, bottom = lowest(bottom, left)
-    raise TooMany(MOST_TERMS + 1)
+    row, ended = first_terms(fraction, MOST_TERMS, manner)
+    if not ended:
+        raise TooMany(MOST_TERMS + 1)
+    return row
+
+
+def number_behind(terms, rest, manner):
+    """The number whose row is the terms and then the rest's; of an end the rest is (1, 0)."""
+    sign = -1 if manner == "ceil" else 1
+    top, bottom = rest
+    for term in reversed(terms):
+        top, bottom = term * top + sign * bottom, top
+    return lowest(top, bottom)
 
 
 def number_of(row, manner="floor"):
     """The fraction that a legal row of the manner writes."""
     if not is_row(row, manner):
         raise NoRow(row)
-    sign = -1 if manner == "ceil" else 1
-    top, bottom = row[-1], 1
-    for term in reversed(row[:-1]):
-        top, bottom = term * top + sign * bottom, top
-    return lowest(top, bottom)
+    return number_behind(row, (1, 0), manner)
 
 
 def may_follow(terms, thing, manner="floor"):

@@ -5,7 +5,7 @@ from math import gcd
 from termstream.cones import cone, is_cone
 from termstream.errors import NoManner, NoRow
 from termstream.manners import may_end
-from tests.search import MANNERS, is_beginning_by_rule, lists_of, row_by_rule
+from tests.search import MANNERS, is_beginning_by_rule, is_rest, lists_of
 from tests.things import Asking, all_but, any_things, is_numbers
 
 CONES = (
@@ -29,22 +29,6 @@ def has(sides, top, bottom):
         if k >= 0 and m >= 0 and (k > 0 or second_in) and (m > 0 or first_in):
             return True
     return False
-
-
-def with_rest(terms, rest, manner):
-    """The number whose terms go on with the rest, or None."""
-    number = rest
-    for term in reversed(terms):
-        if number == 0:
-            return None
-        number = term - 1 / number if manner == "ceil" else term + 1 / number
-    return number
-
-
-def is_rest(terms, rest, manner):
-    """Whether a row that goes on with the rest begins with the terms, by the rule."""
-    number = with_rest(terms, rest, manner)
-    return number is not None and row_by_rule(number, manner) == terms + row_by_rule(rest, manner)
 
 
 class Cones(Asking):

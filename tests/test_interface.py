@@ -25,6 +25,35 @@ INTERFACE = {
         "may_end(terms, manner='floor')", "taken_rows(t, manner='floor')",
         "given_rows(t, manner='floor')"),
     "cones": ("cone(terms, manner='floor')", "is_cone(thing)"),
+    "ranges": (
+        "rows_times(one, other)", "settled(low, low_in, high, high_in, manner='floor')", "range_of(rows, cone)"),
+    "settling": ("neighbours_of(stream, bound)",),
+    "rounds": (
+        "equation_of(terms, again)", "surd_of(terms, again)", "least_row(terms, again)",
+        "shows_row(surd, terms, again)"),
+    "corners": ("sides_of(terms, ended, manner)", "form_at(form, vectors)", "range_over(top, bottom, sides)"),
+    "ones": (
+        "plain_one(rows, x, many, manner='floor')",
+        "shows_apart(rows, terms, one, other, place, manner='floor', of='floor')"),
+}
+
+# The class, the one it stands under, how it is made, and its methods.
+CLASSES = {
+    "streams": (
+        ("Stream", "object", "(manner)", (
+            "ask(k)", "terms(many)", "manner()", "asked()", "depth()", "bounds()", "more()", "made()")),),
+    "sources": (
+        ("Row", "Stream", "(terms, manner='floor')", ("more()",)),
+        ("Ruled", "Stream", "(terms, round_terms, steps=None, manner='floor')", ("more()",)),
+        ("Fed", "Stream", "(manner='floor')", ("feed(term)", "finish()", "more()")),
+        ("Tail", "Stream", "(stream, place)", ("more()",))),
+    "surds": (
+        ("Surd", "object", "(p, d, q=1)", (
+            "told()", "__str__()", "__repr__()", "__eq__(other)", "compare(other)", "fraction()", "other_root()",
+            "equation()", "floor()", "rest()", "terms(many=20)", "comes_round(most=200)", "reduced()")),),
+    "machines": (
+        ("Machine", "Stream", None, ("state()", "parts()", "bounds()", "depth()", "more()")),),
+    "ones": (("One", "Machine", "(rows, stream, manner='floor', most=40)", ()),),
 }
 
 
@@ -38,3 +67,22 @@ class Interface(unittest.TestCase):
                 self.assertEqual(name + str(inspect.signature(found)), words)
                 self.assertEqual(found.__module__, f"termstream.{file}")
                 self.assertTrue(inspect.isfunction(found))
+
+    def test_each_class_is_defined_where_it_is_listed(self):
+        for file, listed in CLASSES.items():
+            module = importlib.import_module(f"termstream.{file}")
+            for name, base, made, methods in listed:
+                found = getattr(module, name)
+                self.assertEqual(found.__module__, f"termstream.{file}")
+                self.assertEqual([part.__name__ for part in found.__bases__], [base])
+                if made is not None:
+                    self.assertEqual(str(inspect.signature(found)), made)
+                self.assert_methods(found, methods)
+
+    def assert_methods(self, found, methods):
+        """Each stands in the class itself, with its own object and what is listed."""
+        for words in methods:
+            name, _, handed = words.partition("(")
+            method = vars(found)[name]
+            right = f"(self, {handed}" if handed != ")" else "(self)"
+            self.assertEqual(str(inspect.signature(method)), right, words)

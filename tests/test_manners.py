@@ -8,16 +8,14 @@ from tests.search import (
     MANNERS, fractions_to, is_beginning_by_rule, is_row_by_rule, lists_of, row_by_rule, told, value,
     value_by_rule,
 )
-from tests.things import Asking, all_but, any_things, is_lowest, is_numbers, is_whole_number
+from tests.things import (
+    Asking, all_but, any_things, is_lowest, is_manner_word, is_numbers, is_whole_number,
+)
 
 TERMS = (-3, -2, -1, 0, 1, 2, 3)
 LISTS = lists_of(TERMS, 4)
 LARGE = [(314159265358979323846264338327, 10 ** 29), (-314159265358979323846264338327, 10 ** 29),
          (123456789012345678901234567891, 987654321098765432109876543211), (1, 10 ** 29 + 7)]
-
-
-def is_manner_word(thing):
-    return isinstance(thing, str) and thing in MANNERS
 
 
 def is_legal(thing, manner):

@@ -1,10 +1,14 @@
 """Any things to hand in, what they are by plain words, and how refusals are asked."""
 
-import copy
 import unittest
 from math import gcd
 
 from termstream import errors
+from termstream.machines import Machine
+from termstream.ones import One
+from termstream.sources import Fed, Row, Ruled, Tail
+from termstream.streams import Stream
+from termstream.surds import Surd
 
 
 def any_things():
@@ -27,9 +31,35 @@ def any_things():
         {"a": 1}, {1: (2, 3)}, {(22, 7): [3]}, {0: 22, 1: 7},
         [(22, 7)], ((3, 1), (22, 7)), [(3, 1), (22, 7)], ((3, 1), (22, 7), (4, 1)),
         ((0, 1), (1, 0)), (((1, 1), False), ((1, 0), True)),
+        ((1, 2), (2, 4)), ((0, 0), (0, 0)), ((1, 2), (3, 4), (5, 6)), ((1, 2), [3, 4]), [(1, 2), (3, 4)],
+        ((1, 2), (3, True)), ((1, 2, 3), (4, 5, 6)), ((1, 2),), ((1,), (2,)), ((1, 2), None),
+        4, 5, 20, 60, 61, 64, 65, 100, 400, 401, 999, 1000, 1001, 10 ** 12 + 1,
         deep, ([{"a": [(1, None)]}],),
         errors.NoBack(), errors.NoRow([3]), errors.TooMany(5), errors.TermError("floor"),
+        *streams_of_each_kind(), Surd(1, 5, 2), Surd(3, 0), [Row([3])], (Surd(3, 0),),
     ]
+
+
+def streams_of_each_kind():
+    """Streams of each kind, new ones each time."""
+    fed = Fed("ceil")
+    fed.feed(3)
+    return [
+        Row([3, 7]), Ruled([2], [1, 2, 1], [0, 2, 0]), fed, Tail(Row([3, 7, 2]), 1),
+        One(((1, 2), (3, 4)), Row([3, -7], "near"), "ceil"),
+    ]
+
+
+def picture(thing):
+    """What a thing is now: a stream by what it has made and taken."""
+    if isinstance(thing, Stream):
+        more = thing.state() if isinstance(thing, Machine) else None
+        return (id(thing), thing.made(), repr(thing.bounds()), repr(more))
+    if isinstance(thing, (list, tuple)):
+        return (type(thing), [picture(part) for part in thing])
+    if isinstance(thing, dict):
+        return [(key, picture(part)) for key, part in thing.items()]
+    return id(thing) if isinstance(thing, Exception) else repr(thing)
 
 
 def is_whole_number(thing):
@@ -45,6 +75,31 @@ def is_lowest(thing):
 
 def is_numbers(thing):
     return type(thing) in (list, tuple) and all(type(part) is int for part in thing)
+
+
+def is_manner_word(thing):
+    return isinstance(thing, str) and thing in ("floor", "ceil", "near")
+
+
+def is_two_rows(thing):
+    """Whether the thing is rows of a machine of one stream, by the words of the document."""
+    if type(thing) is not tuple or [type(part) for part in thing] != [tuple, tuple]:
+        return False
+    return all([type(part) for part in row] == [int, int] for row in thing)
+
+
+def is_steep(thing):
+    """Whether the thing is such rows, and they aren't flat."""
+    return is_two_rows(thing) and thing[0][0] * thing[1][1] != thing[0][1] * thing[1][0]
+
+
+def is_stream(thing):
+    return isinstance(thing, Stream)
+
+
+def from_to(low, high):
+    """Whether things are whole numbers from low to high."""
+    return lambda thing: type(thing) is int and low <= thing <= high
 
 
 def is_legal_floor(thing):
@@ -64,17 +119,17 @@ class Asking(unittest.TestCase):
 
     def assert_refused(self, error, thing, call, *handed, **named):
         """The call is refused with just this error, which holds the very thing."""
-        before = copy.deepcopy([part for part in handed if not isinstance(part, Exception)])
+        before = picture([*handed, *named.values()])
         with self.assertRaises(error) as caught:
             call(*handed, **named)
         self.assertIs(type(caught.exception), error)
         field = {errors.TooMany: "many", errors.NoText: "line"}.get(error, "found")
         if error in (errors.TooMany, errors.NoBounds):
+            self.assertIs(type(getattr(caught.exception, field)), type(thing))
             self.assertEqual(getattr(caught.exception, field), thing)
         else:
             self.assertIs(getattr(caught.exception, field), thing)
-        after = [part for part in handed if not isinstance(part, Exception)]
-        self.assertEqual(repr(after), repr(before))
+        self.assertEqual(picture([*handed, *named.values()]), before)
 
     def assert_all_refused(self, error, fits, call):
         """The call of one thing is refused for all things that don't fit."""
