@@ -1,7 +1,7 @@
 """The fraction of the least bottom in a range, and parents of fractions."""
 
 from termstream.errors import NoBounds, NoFraction, NoneThere
-from termstream.fractions import is_fraction, minus, need_fractions, over, sign_of, whole_of
+from termstream.fractions import first_term, is_fraction, need_fractions, sign_of
 from termstream.nearest import neighbours
 from termstream.rows import fraction_of
 
@@ -22,14 +22,14 @@ def least_whole(low, low_in):
     """The least whole number that isn't under a range's low end."""
     if low[1] == 1 and not low_in:
         return low[0] + 1
-    return whole_of(low, "ceil")
+    return first_term(low[0], low[1], "ceil")
 
 
 def greatest_whole(high, high_in):
     """The greatest whole number that isn't over a range's high end."""
     if high[1] == 1 and not high_in:
         return high[0] - 1
-    return whole_of(high, "floor")
+    return first_term(high[0], high[1], "floor")
 
 
 def whole_between(low, high, low_in, high_in):
@@ -46,11 +46,9 @@ def whole_between(low, high, low_in, high_in):
 
 
 def rest_of(end, term):
-    """One over what is left of the end behind the term; None is no bound."""
-    left = minus(end, (term, 1))
-    if left[0] == 0:
-        return None
-    return over((1, 1), left)
+    """One over what is left of the end, which isn't below the term; None is no bound."""
+    left = end[0] - term * end[1]
+    return None if left == 0 else (end[1], left)
 
 
 def between(low, high, low_in=False, high_in=False):
@@ -61,7 +59,7 @@ def between(low, high, low_in=False, high_in=False):
     while whole is None:
         # No whole number parts the range, so all of it has one floor, and the
         # least bottom belongs to the rest that is the simplest one in its turn.
-        term = whole_of(low)
+        term = first_term(low[0], low[1], "floor")
         terms.append(term)
         low, high = rest_of(high, term), rest_of(low, term)
         low_in, high_in = high_in, low_in

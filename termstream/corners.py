@@ -1,7 +1,7 @@
 """What forms make of the rests of streams: their ranges over one cone, or over two."""
 
 from termstream.cones import cone_behind
-from termstream.fractions import lowest, sign_of
+from termstream.fractions import lowest
 
 # The rest of a row that has ended is 1 / 0.
 END = ((1, 0), True)
@@ -40,19 +40,16 @@ def faces_over(sides):
     return faces
 
 
-def is_bounded(faces):
-    """Whether no bottom of the parts is nought, and their numbers have bounds.
+def has_nought(faces):
+    """Whether the bottom is nought at a sum.
 
     A part has sums of all its corners, each taken more than no time. So a bottom
     is nought within it where it is at all corners, or is of either sign at two.
     """
     bottoms = [corner[1] for corner in faces[0]]
     if min(bottoms) < 0 < max(bottoms):
-        return False
-    # Next to a corner at which the bottom alone is nought there is no bound.
-    if any([bottom == 0 and top != 0 for top, bottom in faces[0]]):
-        return False
-    return all([any([corner[1] != 0 for corner in face]) for face in faces])
+        return True
+    return not all([any([corner[1] != 0 for corner in face]) for face in faces])
 
 
 def is_reached(number, faces):
@@ -63,20 +60,45 @@ def is_reached(number, faces):
 
 
 def extremes(numbers):
-    """The least one and the greatest one of the fractions."""
+    """The least and the greatest one of tuples (top, bottom), each bottom above nought."""
     low = high = numbers[0]
-    for number in numbers[1:]:
-        if sign_of(number, low) < 0:
-            low = number
-        if sign_of(number, high) > 0:
-            high = number
+    for top, bottom in numbers[1:]:
+        if top * low[1] < low[0] * bottom:
+            low = (top, bottom)
+        if top * high[1] > high[0] * bottom:
+            high = (top, bottom)
     return (low, high)
+
+
+def spread_over(top, bottom, sides):
+    """The range of top over bottom, of all sums of the sides' vectors; None where a bottom is nought.
+
+    An end is a top and a bottom above nought, not reduced, or None where there the
+    numbers have no bound.
+    """
+    faces = [[(form_at(top, corner), form_at(bottom, corner)) for corner in face] for face in faces_over(sides)]
+    if has_nought(faces):
+        return None
+    if min([below for _, below in faces[0]]) < 0:
+        faces = [[(-above, -below) for above, below in face] for face in faces]
+    low, high = extremes([corner for corner in faces[0] if corner[1] != 0])
+    # Next to a corner at which the bottom alone is nought there is no bound.
+    free = [above for above, below in faces[0] if below == 0]
+    low_in = is_reached(low, faces)
+    high_in = is_reached(high, faces)
+    if free and min(free) < 0:
+        low, low_in = None, False
+    if free and max(free) > 0:
+        high, high_in = None, False
+    return (low, low_in, high, high_in)
 
 
 def range_over(top, bottom, sides):
     """The range of top over bottom, of all sums of the sides' vectors, or None."""
-    faces = [[(form_at(top, corner), form_at(bottom, corner)) for corner in face] for face in faces_over(sides)]
-    if not is_bounded(faces):
+    found = spread_over(top, bottom, sides)
+    if found is None:
         return None
-    low, high = extremes([lowest(above, below) for above, below in faces[0] if below != 0])
-    return (low, is_reached(low, faces), high, is_reached(high, faces))
+    low, low_in, high, high_in = found
+    if low is None or high is None:
+        return None
+    return (lowest(low[0], low[1]), low_in, lowest(high[0], high[1]), high_in)

@@ -2,11 +2,29 @@
 
 from math import gcd
 
-from termstream.apart import rests_apart
-from termstream.corners import range_over, sides_of
+from termstream.apart import is_nought_at_all, rests_apart
+from termstream.corners import range_over, sides_of, spread_over
+from termstream.errors import NoNumber, TooMany
 from termstream.manners import given_rows, number_behind, taken_rows
-from termstream.ranges import rows_times, settled
+from termstream.ranges import settled_term
 from termstream.streams import Stream
+from termstream.taking import settled_thing
+from termstream.words import is_whole
+
+MOST_ASKED = 64
+DEEPEST = 4
+
+
+def need_most(most):
+    """Refuses what is no count of places that are asked for one place."""
+    if not is_whole(most, 1, MOST_ASKED):
+        raise NoNumber(most)
+
+
+def need_depth(*streams):
+    """Refuses streams behind which no machine may stand."""
+    if max([stream.depth() for stream in streams]) >= DEEPEST:
+        raise TooMany(DEEPEST + 1)
 
 
 def plainest(rows):
@@ -21,8 +39,16 @@ def plainest(rows):
     return (tuple([number // common for number in top]), tuple([number // common for number in bottom]))
 
 
+def mixed(rows, forms):
+    """Two forms, each so many times the first one and so many times the second one."""
+    top, bottom = forms
+    (a, b), (c, d) = rows
+    above = tuple([a * one + b * other for one, other in zip(top, bottom)])
+    return (above, tuple([c * one + d * other for one, other in zip(top, bottom)]))
+
+
 class Machine(Stream):
-    """What machines stand under. It is made of one stream; one of two puts some methods otherwise."""
+    """What machines stand under: each folds the terms of its streams into its forms."""
 
     def __init__(self, rows, streams, manner, most):
         Stream.__init__(self, manner)
@@ -34,7 +60,7 @@ class Machine(Stream):
         # By which its number, and by which what is left of it behind the terms
         # that it made, is reckoned of the rests of its streams.
         self._rows = rows
-        self._left = plainest(rows)
+        self._left = rows
 
     def depth(self):
         """One more than the greatest depth of its streams."""
@@ -42,7 +68,7 @@ class Machine(Stream):
 
     def state(self):
         """The terms taken of each stream, whether its end is, and the rows of what is left."""
-        return (tuple([tuple(terms) for terms in self._taken]), tuple(self._ended), self._left)
+        return (tuple([tuple(terms) for terms in self._taken]), tuple(self._ended), plainest(self._left))
 
     def sides(self):
         """The sides of the rests of each stream; None where a first term isn't taken."""
@@ -64,60 +90,63 @@ class Machine(Stream):
         sides = self.sides()
         if sides is None:
             return None
-        found = range_over(self._left[0], self._left[1], sides)
-        if found is not None:
-            low, low_in, high, high_in = found
-            term = settled(low, low_in, high, high_in, self._manner)
-            return None if term is None else ("term", term)
-        if not all(self._ended):
+        top, bottom = self._left
+        if is_nought_at_all(bottom, sides):
+            return ("end",) if len(self._made) > 0 else ("nought",)
+        found = spread_over(top, bottom, sides)
+        if found is None or found[0] is None or found[2] is None:
             return None
-        # The one bottom is nought: the row has ended, or there is no number.
-        return ("end",) if len(self._made) > 0 else ("nought",)
+        low, low_in, high, high_in = found
+        term = settled_term(low, low_in, high, high_in, self._manner)
+        return None if term is None else ("term", term)
 
     def next_stream(self):
         """Of which of its streams it takes the next thing."""
         return 0
 
-    def fold(self, rows, at, term):
-        """The rows for the rest of a stream behind one term more."""
-        return rows_times(rows, taken_rows(term, self._streams[at].manner()))
+    def takes_behind_first(self):
+        """Whether it has taken the first term of the stream that it takes of next."""
+        return len(self._taken[self.next_stream()]) > 0
 
-    def take(self, at):
+    def take(self):
         """Takes the next thing of a stream, and tells its word."""
+        at = self.next_stream()
         thing = self._streams[at].reach(len(self._taken[at]))
         if thing[0] == "term":
+            rows = taken_rows(thing[1], self._streams[at].manner())
             self._taken[at].append(thing[1])
-            self._rows = self.fold(self._rows, at, thing[1])
-            self._left = plainest(self.fold(self._left, at, thing[1]))
+            self._rows = tuple([self.fold(form, at, rows) for form in self._rows])
+            self._left = tuple([self.fold(form, at, rows) for form in self._left])
         elif thing[0] == "end":
             self._ended[at] = True
         return thing[0]
 
+    def fold(self, form, at, rows):
+        """The form for the rest of a stream behind one term more, of which these are the rows."""
+        raise NotImplementedError("machines of one stream and of two fold otherwise")
+
     def more(self):
         """The next thing of its row, as soon as it has taken what settles it."""
-        asks = 0
-        thing = self.next_thing()
-        while thing is None:
-            at = self.next_stream()
-            if len(self._taken[at]) > 0:
-                if asks == self._most:
-                    return ("open",)
-                asks += 1
-            word = self.take(at)
-            if word in ("open", "nought"):
-                return (word,)
-            thing = self.next_thing()
+        thing = settled_thing(self, self._most)
         if thing[0] == "term":
-            self._left = plainest(rows_times(given_rows(thing[1], self._manner), self._left))
+            self._left = mixed(given_rows(thing[1], self._manner), self._left)
         return thing
+
+    def numbers_apart(self):
+        """Twice the numbers of its streams that begin with what is taken, the next things unlike; or None."""
+        sides = self.sides()
+        if sides is None:
+            return None
+        found = rests_apart(self._left, sides, self._manner)
+        if found is None:
+            return None
+        manners = [stream.manner() for stream in self._streams]
+        return [
+            tuple([number_behind(self._taken[at], rest, manners[at]) for at, rest in enumerate(rests)])
+            for rests in found
+        ]
 
     def parts(self):
         """Two numbers that begin with what is taken, and whose next things are unlike, or None."""
-        sides = self.sides()
-        if sides is None or all(self._ended):
-            return None
-        found = rests_apart(self._left, sides[0], self._manner)
-        if found is None:
-            return None
-        terms, manner = self._taken[0], self._streams[0].manner()
-        return (number_behind(terms, found[0], manner), number_behind(terms, found[1], manner))
+        found = self.numbers_apart()
+        return None if found is None else (found[0][0], found[1][0])

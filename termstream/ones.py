@@ -1,15 +1,14 @@
 """Machines of one stream, a plain reckoning of what they tell, and of what isn't settled."""
 
-from termstream.errors import NoNumber, TooMany
+from termstream.corners import form_at
+from termstream.errors import NoNumber
 from termstream.fractions import is_fraction, lowest, need_fractions
-from termstream.machines import Machine
+from termstream.machines import Machine, need_depth, need_most
 from termstream.manners import first_terms, need_manner
 from termstream.ranges import need_rows
 from termstream.streams import need_stream
 from termstream.words import are_numbers, is_whole
 
-MOST_ASKED = 64
-DEEPEST = 4
 MOST_RECKONED = 60
 LAST_PLACE = 999
 
@@ -21,35 +20,46 @@ class One(Machine):
         need_rows(rows)
         need_stream(stream)
         need_manner(manner)
-        if not is_whole(most, 1, MOST_ASKED):
-            raise NoNumber(most)
-        if stream.depth() >= DEEPEST:
-            raise TooMany(DEEPEST + 1)
+        need_most(most)
+        need_depth(stream)
         Machine.__init__(self, rows, [stream], manner, most)
 
+    def fold(self, form, at, rows):
+        """The form for the rest of the stream behind one term more."""
+        a, b = form
+        (t, s), _ = rows
+        return (a * t + b, a * s)
 
-def reckoned(rows, x):
-    """The number that the rows make of the fraction, or None where there is none."""
-    (a, b), (c, d) = rows
-    top, bottom = x
-    below = c * top + d * bottom
-    return None if below == 0 else lowest(a * top + b * bottom, below)
+
+def made_of(rows, vectors):
+    """The number that the rows make of numbers, or None where there is none."""
+    below = form_at(rows[1], vectors)
+    return None if below == 0 else lowest(form_at(rows[0], vectors), below)
+
+
+def need_many(many):
+    """Refuses what is no count of terms that are reckoned."""
+    if not is_whole(many, 0, MOST_RECKONED):
+        raise NoNumber(many)
+
+
+def told_terms(number, many, manner):
+    """The first many terms of the number, or of none, and the word behind them."""
+    if many == 0:
+        return ([], "more")
+    if number is None:
+        return ([], "nought")
+    terms, _ = first_terms(number, many, manner)
+    return (terms, "more" if len(terms) == many else "end")
 
 
 def plain_one(rows, x, many, manner="floor"):
     """The first many terms of the number that the rows make of x, and the word behind them."""
     need_rows(rows)
     need_fractions(x)
-    if not is_whole(many, 0, MOST_RECKONED):
-        raise NoNumber(many)
+    need_many(many)
     need_manner(manner)
-    if many == 0:
-        return ([], "more")
-    number = reckoned(rows, x)
-    if number is None:
-        return ([], "nought")
-    terms, _ = first_terms(number, many, manner)
-    return (terms, "more" if len(terms) == many else "end")
+    return told_terms(made_of(rows, [x]), many, manner)
 
 
 def begins_so(thing, terms, manner):
@@ -77,4 +87,4 @@ def shows_apart(rows, terms, one, other, place, manner="floor", of="floor"):
         return False
     if not begins_so(one, terms, of) or not begins_so(other, terms, of):
         return False
-    return are_apart(reckoned(rows, one), reckoned(rows, other), place, manner)
+    return are_apart(made_of(rows, [one]), made_of(rows, [other]), place, manner)

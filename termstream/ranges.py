@@ -4,7 +4,7 @@ from termstream.between import between, need_range
 from termstream.cones import is_cone
 from termstream.corners import range_over
 from termstream.errors import Flat, NoCone, NoRows
-from termstream.fractions import need_fractions, plus, whole_of
+from termstream.fractions import first_term, need_fractions, plus
 from termstream.manners import need_manner
 from termstream.words import are_numbers, is_pair
 
@@ -38,17 +38,25 @@ def rows_times(one, other):
 def low_term(low, low_in, manner):
     """The first term of the numbers of a range that are next to its low end."""
     if manner == "ceil" and not low_in:
-        return whole_of(low, "floor") + 1
-    return whole_of(low, manner)
+        return low[0] // low[1] + 1
+    return first_term(low[0], low[1], manner)
 
 
 def high_term(high, high_in, manner):
     """The first term of the numbers of a range that are next to its high end."""
+    top, bottom = high
     if high_in or manner == "ceil":
-        return whole_of(high, manner)
+        return first_term(top, bottom, manner)
     if manner == "near":
-        high = plus(high, HALF)
-    return whole_of(high, "ceil") - 1
+        top, bottom = 2 * top + bottom, 2 * bottom
+    return first_term(top, bottom, "ceil") - 1
+
+
+def settled_term(low, low_in, high, high_in, manner):
+    """As `settled` tells, of ends that are tops over bottoms above nought."""
+    # The first term never falls as the numbers rise, so the two ends tell all.
+    term = low_term(low, low_in, manner)
+    return term if term == high_term(high, high_in, manner) else None
 
 
 def settled(low, low_in, high, high_in, manner="floor"):
@@ -56,16 +64,15 @@ def settled(low, low_in, high, high_in, manner="floor"):
     need_manner(manner)
     need_fractions(low, high)
     need_range(low, high, low_in, high_in)
-    # The first term never falls as the numbers rise, so the two ends tell all.
-    term = low_term(low, low_in, manner)
-    return term if term == high_term(high, high_in, manner) else None
+    return settled_term(low, low_in, high, high_in, manner)
 
 
 def cut_of(low, low_in, high, high_in, manner):
     """Where the first terms of a range that isn't settled become others."""
+    below = 0
     if low is not None:
         below = low_term(low, low_in, manner)
-    else:
+    elif high is not None:
         below = high_term(high, high_in, manner) - 1
     if manner == "near":
         return plus((below, 1), HALF)
@@ -75,7 +82,7 @@ def cut_of(low, low_in, high, high_in, manner):
 def parted(low, low_in, high, high_in, manner):
     """Two fractions with unlike first terms of a range that isn't settled.
 
-    One end of the range may be None, where it has no bound.
+    An end of the range may be None, where it has no bound.
     """
     cut = cut_of(low, low_in, high, high_in, manner)
     below_has_cut = manner == "ceil"

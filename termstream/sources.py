@@ -104,6 +104,10 @@ class Fed(Stream):
             raise NoTerm(self._fed[-1] if self._fed else None)
         self._finished = True
 
+    def many(self):
+        """How many terms are fed."""
+        return len(self._fed)
+
     def more(self):
         """The next term that is fed, or the end; open where neither is known."""
         k = len(self._made)

@@ -1,10 +1,8 @@
 """Streams: rows that are told term by term, as they are asked."""
 
-from termstream.cones import cone_behind
+from termstream.begun import Begun
 from termstream.errors import NoNumber, NoPlace, NoStream
-from termstream.fractions import lowest
-from termstream.manners import need_manner, taken_rows
-from termstream.ranges import range_of, rows_times
+from termstream.manners import need_manner
 from termstream.words import is_whole
 
 LAST_PLACE = 999
@@ -20,9 +18,8 @@ class Stream:
         self._made = []
         # How the row has ended: "end" or "nought"; None as long as it hasn't.
         self._closed = None
-        # The product of the rows of the first terms, of so many as were turned.
-        self._turn = ((1, 0), (0, 1))
-        self._turned = 0
+        # What is made, as far as it was looked at.
+        self._begun = Begun(manner)
 
     def more(self):
         """Tells the first place that isn't made: a term, the end, open or nought."""
@@ -85,15 +82,11 @@ class Stream:
 
     def begun(self):
         """The range of all numbers whose rows begin with what is made, or None of all."""
-        if len(self._made) == 0:
-            return None
-        while self._turned < len(self._made):
-            self._turn = rows_times(self._turn, taken_rows(self._made[self._turned], self._manner))
-            self._turned += 1
+        for term in self._made[self._begun.many():]:
+            self._begun.take(term)
         if self._closed is not None:
-            number = lowest(self._turn[0][0], self._turn[1][0])
-            return (number, True, number, True)
-        return range_of(self._turn, cone_behind(self._made, self._manner))
+            self._begun.close()
+        return self._begun.numbers()
 
     def bounds(self):
         """What bounds the numbers whose rows begin with what is made."""

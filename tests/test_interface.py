@@ -35,6 +35,18 @@ INTERFACE = {
     "ones": (
         "plain_one(rows, x, many, manner='floor')",
         "shows_apart(rows, terms, one, other, place, manner='floor', of='floor')"),
+    "twos": (
+        "plain_two(rows, x, y, many, manner='floor')",
+        "shows_pairs_apart(rows, terms, other_terms, one, other, place, manner='floor', of='floor', other_of='floor')"),
+    "rooted": (
+        "root_row(fraction, many)", "root_next(fraction, given)",
+        "shows_root_parts(taken, given, thing, manner='floor')"),
+    "digits": (
+        "digits(stream, many, base=10, most=64)", "number_of_digits(found, base=10)", "digits_text(found, base=10)"),
+    "comparing": ("compare(one, other, most=40)",),
+    "reckoner": ("reckoned(net, name, deep)",),
+    "plans": ("is_plan(thing)", "plan_text(plan)", "read_plan(text)"),
+    "building": ("net_of(plan)",),
 }
 
 # The class, the one it stands under, how it is made, and its methods.
@@ -54,6 +66,17 @@ CLASSES = {
     "machines": (
         ("Machine", "Stream", None, ("state()", "parts()", "bounds()", "depth()", "more()")),),
     "ones": (("One", "Machine", "(rows, stream, manner='floor', most=40)", ()),),
+    "twos": (("Two", "Machine", "(rows, one, other, manner='floor', most=40)", ("parts()",)),),
+    "rooted": (("Rooted", "Stream", "(stream, most=40)", ("taken()", "parts()", "depth()", "more()")),),
+    "running": (("Running", "Stream", "(surd)", ("more()",)),),
+    "nets": (
+        ("Net", "object", "()", (
+            "put(name, stream)", "put_surd(name, surd)",
+            "put_one(name, source, rows, manner='floor', most=40)",
+            "put_two(name, one, other, rows, manner='floor', most=40)", "put_root(name, source, most=40)",
+            "names()", "__len__()", "stream(name)", "way(name)", "counts()", "ask(name, k)", "place(name)",
+            "read(name, many=1)", "undo()")),),
+    "desk": (("Desk", "object", "()", ("say(line)", "net()", "plan()")),),
 }
 
 

@@ -4,11 +4,16 @@ import unittest
 from math import gcd
 
 from termstream import errors
+from termstream.desk import Desk
 from termstream.machines import Machine
+from termstream.nets import Net
 from termstream.ones import One
+from termstream.rooted import Rooted
+from termstream.running import Running
 from termstream.sources import Fed, Row, Ruled, Tail
 from termstream.streams import Stream
 from termstream.surds import Surd
+from termstream.twos import Two
 
 
 def any_things():
@@ -36,7 +41,11 @@ def any_things():
         4, 5, 20, 60, 61, 64, 65, 100, 400, 401, 999, 1000, 1001, 10 ** 12 + 1,
         deep, ([{"a": [(1, None)]}],),
         errors.NoBack(), errors.NoRow([3]), errors.TooMany(5), errors.TermError("floor"),
-        *streams_of_each_kind(), Surd(1, 5, 2), Surd(3, 0), [Row([3])], (Surd(3, 0),),
+        *streams_of_each_kind(), Surd(1, 5, 2), Surd(3, 0), [Row([3])], (Surd(3, 0),), small_net(), small_desk(),
+        ((0, 1, 1, 0), (0, 0, 0, 1)), [(0, 1, 1, 0), (0, 0, 0, 1)], ((0, 1, 1, 0), [0, 0, 0, 1]),
+        ((0, 1, 1, 0), (0, 0, 1)), ((0, 1, 1, True), (0, 0, 0, 1)), ((0, 1, 1, 0), (0, 0, 0, 1), (0, 0, 0, 1)),
+        ((0, 0, 0, 0), (0, 0, 0, 1)), ((0, 1, 1, 0), (0, 0, 0, 0)), ((2, -4, 6, 8), (-3, 6, -9, -12)),
+        ("fed", "a", "floor"), [("fed", "a", "floor")], "fed a floor", "ask a 0", "load ",
     ]
 
 
@@ -46,15 +55,39 @@ def streams_of_each_kind():
     fed.feed(3)
     return [
         Row([3, 7]), Ruled([2], [1, 2, 1], [0, 2, 0]), fed, Tail(Row([3, 7, 2]), 1),
-        One(((1, 2), (3, 4)), Row([3, -7], "near"), "ceil"),
+        One(((1, 2), (3, 4)), Row([3, -7], "near"), "ceil"), Running(Surd(1, 5, 2)), Rooted(Row([3, 7])),
+        Two(((0, 1, 1, 0), (0, 0, 0, 1)), Row([3, 7]), Row([3, -7], "near"), "near"),
     ]
+
+
+def small_net():
+    net = Net()
+    net.put("a", Row([3, 7]))
+    net.put_root("b", "a")
+    net.read("b")
+    return net
+
+
+def small_desk():
+    desk = Desk()
+    desk.say("row a floor 3,7")
+    desk.say("read a 1")
+    return desk
 
 
 def picture(thing):
     """What a thing is now: a stream by what it has made and taken."""
     if isinstance(thing, Stream):
         more = thing.state() if isinstance(thing, Machine) else None
+        if isinstance(thing, Rooted):
+            more = thing.taken()
         return (id(thing), thing.made(), repr(thing.bounds()), repr(more))
+    if isinstance(thing, Net):
+        names = thing.names()
+        ways = [(name, thing.way(name), thing.place(name)) for name in names]
+        return (id(thing), ways, [picture(thing.stream(name)) for name in names])
+    if isinstance(thing, Desk):
+        return (id(thing), picture(thing.net()), repr(thing.plan()))
     if isinstance(thing, (list, tuple)):
         return (type(thing), [picture(part) for part in thing])
     if isinstance(thing, dict):
@@ -91,6 +124,32 @@ def is_two_rows(thing):
 def is_steep(thing):
     """Whether the thing is such rows, and they aren't flat."""
     return is_two_rows(thing) and thing[0][0] * thing[1][1] != thing[0][1] * thing[1][0]
+
+
+def is_four_rows(thing):
+    """Whether the thing is rows of a machine of two streams, by the words of the document."""
+    if type(thing) is not tuple or [type(part) for part in thing] != [tuple, tuple]:
+        return False
+    return all([type(part) for part in row] == [int] * 4 for row in thing)
+
+
+def in_one_proportion(rows):
+    """Whether the one four is a multiple of the other one, or all of one are nought."""
+    if not any(rows[0]) or not any(rows[1]):
+        return True
+    top, bottom = [[number for number in row] for row in rows]
+    at = [place for place in range(4) if bottom[place]][0]
+    return all(part * bottom[at] == other * top[at] for part, other in zip(top, bottom))
+
+
+def is_steep_four(thing):
+    """Whether the thing is such rows, and they aren't flat."""
+    return is_four_rows(thing) and not in_one_proportion(thing)
+
+
+def is_fit_name(thing):
+    """Whether the thing is a name, by the words of the document."""
+    return type(thing) is str and 1 <= len(thing) <= 6 and not set(thing) - set("abcdefghijklmnopqrstuvwxyz")
 
 
 def is_stream(thing):
