@@ -20,7 +20,7 @@ class Begun:
         """The list of the terms."""
         return list(self._terms)
 
-    def many(self):
+    def length(self):
         """How many terms there are."""
         return len(self._terms)
 

@@ -63,8 +63,6 @@ def text_of(thing):
     """One thing of an answer as a text."""
     if thing is None:
         return "nothing"
-    if isinstance(thing, str):
-        return thing
     return fraction_text(thing) if isinstance(thing, tuple) else str(thing)
 
 
@@ -98,13 +96,13 @@ def fed_stream(net, name):
 def answer_feed(net, name, term):
     stream = fed_stream(net, name)
     stream.feed(term)
-    return [stream.many()]
+    return [stream.length()]
 
 
 def answer_finish(net, name):
     stream = fed_stream(net, name)
     stream.finish()
-    return [stream.many()]
+    return [stream.length()]
 
 
 def answer_ask(net, name, place):
@@ -146,7 +144,7 @@ def answer_compare(net, one, other, most):
     return list(compare(net.stream(one), net.stream(other), most))
 
 
-# Each tells the things of the answer to a line.
+# Each tells the things of the answer to a line, and looks up its names ahead of all else.
 ANSWERS = {
     "names": answer_names,
     "counts": answer_counts,
@@ -186,9 +184,6 @@ class Desk:
         if word == "load":
             return self.load(" ".join(words[1:]))
         things = things_of(line, words)
-        for kind, thing in zip(BEHIND[word], things):
-            if kind == "name":
-                self._net.need(thing)
         if word == "plan":
             return plan_text(self._plan).replace("\n", " / ") or "nothing"
         if word == "undo":

@@ -73,8 +73,6 @@ def are_apart(number, other, place, manner):
         return place == 0 and number != other
     row, _ = first_terms(number, place + 1, manner)
     other_row, _ = first_terms(other, place + 1, manner)
-    if len(row) < place or len(other_row) < place:
-        return False
     return row[:place] == other_row[:place] and row != other_row
 
 

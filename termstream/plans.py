@@ -144,7 +144,8 @@ def read_line(line):
     shape = SHAPES[words[0]]
     if len(words) != 1 + len(shape):
         return None
-    row = (words[0], *[read_thing(kind, word) for kind, word in zip(shape, words[1:])])
+    things = [read_thing(kind, word) for kind, word in zip(shape, words[1:])]
+    row = (words[0], *things)
     return row if is_plan_row(row) else None
 
 

@@ -121,9 +121,8 @@ class Rooted(Stream):
             return thing
         if low[0] < 0:
             return None if has_from_nought(high, high_in) else thing
-        if thing == ("end",) or not holds(self.squares_with(thing[1]), numbers):
-            return None
-        return thing
+        # Amid the range no root ends here: the row that does is at an end of all that begin so.
+        return thing if holds(self.squares_with(thing[1]), numbers) else None
 
     def apart(self, numbers):
         """Two numbers of the range whose roots go on otherwise."""
@@ -131,17 +130,14 @@ class Rooted(Stream):
         if low[0] < 0:
             return (between(low, NOUGHT, low_in, False), between(NOUGHT, high, True, high_in))
         one = amid(numbers)
-        thing = self.thing_of(one)
-        if thing == ("end",):
-            return (one, between(one, high))
-        least, least_in, greatest, greatest_in = self.squares_with(thing[1])
+        least, least_in, greatest, greatest_in = self.squares_with(self.thing_of(one)[1])
         if not starts_no_earlier(low, low_in, least, least_in):
             return (one, between(low, least, low_in, not least_in))
         return (one, between(greatest, high, not greatest_in, high_in))
 
     def takes_behind_first(self):
         """Whether it has taken its stream's first term."""
-        return self._taken.many() > 0
+        return self._taken.length() > 0
 
     def take(self):
         """Takes the next thing of its stream, and tells its word."""
@@ -170,7 +166,7 @@ def squared(number):
 def amid(numbers):
     """A fraction amid the range, or the one that there is."""
     low, _, high, _ = numbers
-    return low if low == high else lowest(low[0] + high[0], low[1] + high[1])
+    return lowest(low[0] + high[0], low[1] + high[1])
 
 
 def has_from_nought(high, high_in):

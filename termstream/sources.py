@@ -104,7 +104,7 @@ class Fed(Stream):
             raise NoTerm(self._fed[-1] if self._fed else None)
         self._finished = True
 
-    def many(self):
+    def length(self):
         """How many terms are fed."""
         return len(self._fed)
 

@@ -82,7 +82,7 @@ class Stream:
 
     def begun(self):
         """The range of all numbers whose rows begin with what is made, or None of all."""
-        for term in self._made[self._begun.many():]:
+        for term in self._made[self._begun.length():]:
             self._begun.take(term)
         if self._closed is not None:
             self._begun.close()

@@ -14,9 +14,9 @@ class Taken:
         """The list of the terms that are taken."""
         return self._begun.terms()
 
-    def many(self):
+    def length(self):
         """How many terms are taken."""
-        return self._begun.many()
+        return self._begun.length()
 
     def numbers(self):
         """The range of all numbers that begin with what is taken, or None of all numbers."""
@@ -24,7 +24,7 @@ class Taken:
 
     def take(self):
         """Takes the next thing of the stream, and tells its word."""
-        thing = self._stream.reach(self._begun.many())
+        thing = self._stream.reach(self._begun.length())
         if thing[0] == "term":
             self._begun.take(thing[1])
         elif thing[0] == "end":
@@ -33,7 +33,7 @@ class Taken:
 
     def is_nought(self):
         """Whether the stream is known by now to have no number."""
-        many = self._begun.many()
+        many = self._begun.length()
         return self._stream.has(many) and self._stream.reach(many) == ("nought",)
 
 

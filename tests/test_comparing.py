@@ -141,5 +141,7 @@ class Compared(Asking):
             self.assert_refused(NoManner, manner, compare, stream, None, 0)
             self.assert_refused(NoManner, manner, compare, one, stream, 0)
             self.assert_refused(NoManner, manner, compare, stream, stream)
+        for most in (0, 101):
+            self.assert_refused(NoNumber, most, compare, one, other, most)
         self.assert_refused(NoStream, None, compare, one, None)
         self.assertEqual((one.asked(), other.asked()), (0, 0))

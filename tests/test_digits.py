@@ -170,6 +170,8 @@ class Digits(Asking):
             if not from_to(1, 64)(thing):
                 self.assert_refused(NoNumber, thing, digits, stream, 3, 10, thing)
                 self.assert_refused(NoNumber, thing, digits, stream, 3, most=thing)
+        for many in (-1, 41):
+            self.assert_refused(NoNumber, many, digits, stream, many)
         for base in (1, 37, 0, -10):
             self.assert_refused(NoBase, base, digits, stream, 3, base=base)
         self.assertEqual(stream.asked(), 0)

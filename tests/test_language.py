@@ -1,12 +1,21 @@
 """A few rules of the language that a plain look can check."""
 
 import ast
+import builtins
 import unittest
 from pathlib import Path
 
 PACKAGE = Path(__file__).resolve().parent.parent / "termstream"
 OUTSIDE = {"math": {"gcd", "lcm", "isqrt", "comb", "perm", "factorial"}}
 TAKE_LISTS = ("any", "all", "sum", "min", "max", "sorted")
+BUILTINS = set(
+    "len range enumerate zip min max sum abs sorted reversed int str bool list tuple dict set isinstance ord repr any all"
+    " divmod ValueError KeyError LookupError NotImplementedError".split())
+# Of the methods of builtin values those that the package may call.
+METHODS = set(
+    "append clear copy count endswith extend find get index insert items join keys partition pop remove replace reverse"
+    " rfind split startswith strip update values removeprefix removesuffix".split())
+SPECIAL = {"__init__", "__eq__", "__repr__", "__str__", "__len__"}
 
 
 def files():
@@ -75,3 +84,49 @@ class Language(unittest.TestCase):
                     self.assertNotIn(node.arg, top, file.name)
                 if isinstance(node, ast.Name) and isinstance(node.ctx, ast.Store):
                     self.assertNotIn(node.id, top, file.name)
+
+    def test_only_builtins_and_methods_that_are_allowed(self):
+        own = {node.name for _, node in nodes(ast.FunctionDef)}
+        for name, node in nodes(ast.Name):
+            if isinstance(node.ctx, ast.Load) and hasattr(builtins, node.id):
+                self.assertIn(node.id, BUILTINS, name)
+            if isinstance(node.ctx, ast.Store):
+                self.assertFalse(hasattr(builtins, node.id), (name, node.id))
+        for name, node in nodes(ast.Call):
+            if isinstance(node.func, ast.Attribute):
+                self.assertTrue(node.func.attr in own or node.func.attr in METHODS, (name, node.func.attr))
+
+    def test_no_method_is_an_attribute_or_one_of_a_builtin_value(self):
+        methods = set()
+        for name, node in nodes(ast.ClassDef):
+            methods |= {part.name for part in node.body if isinstance(part, ast.FunctionDef)}
+        stored = {node.attr for _, node in nodes(ast.Attribute) if isinstance(node.ctx, ast.Store)}
+        self.assertEqual(methods & stored, set())
+        taken = {name for kind in (str, int, list, dict, set, bytes, tuple) for name in dir(kind)}
+        self.assertEqual((methods - SPECIAL) & taken, set())
+        self.assertEqual({name for name in methods if name.startswith("__")} - SPECIAL, set())
+
+    def test_is_stands_beside_none_and_exponents_are_literals(self):
+        for name, node in nodes(ast.Compare):
+            for sign, other in zip(node.ops, node.comparators):
+                if isinstance(sign, (ast.Is, ast.IsNot)):
+                    self.assertIsInstance(other, ast.Constant, name)
+        for name, node in nodes(ast.BinOp):
+            if isinstance(node.op, ast.Pow):
+                self.assertTrue(isinstance(node.right, ast.Constant) and 0 <= node.right.value <= 64, name)
+
+    def test_statements_that_are_not_needed(self):
+        kinds = (ast.Try, ast.With, ast.Lambda, ast.GeneratorExp, ast.Yield, ast.Global, ast.Nonlocal, ast.NamedExpr)
+        self.assertEqual([(name, node.lineno) for name, node in nodes(*kinds)], [])
+
+    def test_no_two_files_import_from_each_other(self):
+        stands_on = {}
+        for file in files():
+            tree = ast.parse(file.read_text())
+            modules = [line.module for line in tree.body if isinstance(line, ast.ImportFrom)]
+            stands_on[file.stem] = {part.partition(".")[2] for part in modules if part.startswith("termstream.")}
+        while stands_on:
+            free = [name for name, others in stands_on.items() if not others & set(stands_on)]
+            self.assertTrue(free, stands_on)
+            for name in free:
+                del stands_on[name]

@@ -119,7 +119,7 @@ class RootRows(Asking):
         for thing in all_but(is_lowest):
             self.assert_refused(NoFraction, thing, root_row, thing, 3)
             self.assert_refused(NoFraction, thing, root_row, thing, None)
-        for thing in all_but(from_to(0, 60)):
+        for thing in [*all_but(from_to(0, 60)), 61]:
             self.assert_refused(NoNumber, thing, root_row, (2, 1), thing)
             self.assert_refused(NoNumber, thing, root_row, (-2, 1), thing)
         self.assert_new_each_time(lambda many: root_row((2, 1), many)[0], 3)
@@ -428,6 +428,12 @@ class Most(Asking):
         self.assertEqual(rooted.ask(1), ("term", 2))
         rooted = Rooted(Row([1, 2, 2, 2], "ceil"), 3)
         self.assertEqual(rooted.ask(1), ("term", 2))
+        # Only the first place isn't counted, whichever place of its own it is asked for.
+        rooted = Rooted(Row([3, 2, 2, 2], "ceil"), 1)
+        for taken in ([3, 2], [3, 2, 2]):
+            self.assertEqual(rooted.ask(1)[0], "open")
+            self.assertEqual(rooted.taken(), taken)
+        self.assertEqual(rooted.ask(1), ("term", 2))
         rooted = Rooted(Row([9], "ceil"), 1)
         self.assertEqual(rooted.ask(0), ("term", 3))
         self.assertEqual(rooted.ask(1), ("end",))
@@ -487,6 +493,7 @@ class ShownParts(Asking):
                     self.assert_refused(NoRow, thing, shows_root_parts, thing, None, parts, manner)
             if not is_numbers(thing):
                 self.assert_refused(NoRow, thing, shows_root_parts, [4], thing, parts)
+                self.assert_refused(NoRow, thing, shows_root_parts, [4], thing, None)
             self.assertIs(shows_root_parts([4], [2], thing), False)
             self.assertIs(shows_root_parts([4], [2], (thing, (9, 2))), False)
         self.assertIs(shows_root_parts([4], [2], list(parts)), False)

@@ -341,6 +341,26 @@ class Ends(Asking):
         self.assertEqual(machine.ask(0), ("nought",))
         self.assertEqual(machine.state()[1], (False, True))
 
+    def test_where_no_end_of_the_rests_is_in(self):
+        # Behind a 1 that isn't the first one no row of `floor` ends, and none has a rest of 1.
+        rows = ((2, 0, -1, 3), (0, 0, 0, 1))
+        machine = Two(rows, Row([0, 2]), Ruled([1], [1]))
+        self.assertEqual(machine.terms(9), ([3], "end"))
+        self.assertEqual(machine.state()[:2], (((0, 2), (1, 1)), (True, False)))
+        self.assertIsNone(machine.parts())
+        # There is no number where x is 1/2, whatever y is.
+        rows = ((0, 0, 0, 1), (2, 0, -1, 0))
+        for x, y in (([0, 1], [1, 1]), ([0], [1, 1]), ([0, 1, 1], [1, 1])):
+            machine = Two(rows, fed(x), fed(y))
+            self.assertEqual(machine.ask(0)[0], "open")
+            parts = machine.parts()
+            for part in parts:
+                self.assertTrue(begins(part[0], machine.state()[0][0], "floor"))
+                self.assertTrue(begins(part[1], machine.state()[0][1], "floor"))
+            self.assertTrue(pairs_apart(rows, parts, 0, "floor"))
+        machine = Two(rows, fed([0, 2], finished=True), fed([1, 1]))
+        self.assertEqual((machine.ask(0), machine.parts()), (("nought",), None))
+
     def test_streams_of_unlike_length(self):
         for one, other in (([3], [1, 2, 3, 4, 5, 6, 7]), ([1, 2, 3, 4, 5, 6, 7], [3])):
             x, y = Row(one), Row(other)
