@@ -261,8 +261,8 @@ class Rooteds(Asking):
             self.assertEqual(Surd(end.numerator, 0, end.denominator).compare(surd), word)
 
     def test_four_deep(self):
-        stream = number = (10 ** 16 + 1, 1)
-        stream = Row([number[0]])
+        number = 10 ** 16 + 1
+        stream = Row([number])
         for depth in range(1, 5):
             stream = Rooted(stream)
             self.assertEqual(stream.depth(), depth)
@@ -270,7 +270,7 @@ class Rooteds(Asking):
         terms = asked_on(stream, 30)
         self.assertEqual(terms[1], "more")
         low, high = [value(end) ** 16 for end in stream.bounds()]
-        self.assertTrue(low <= number[0] <= high and high - low < 1)
+        self.assertTrue(low <= number <= high and high - low < 1)
         self.assert_refused(TooMany, 5, Rooted, stream)
         self.assert_refused(TooMany, 5, Rooted, Tail(stream, 3), 1)
         self.assertEqual(Two(((0, 1, 1, 0), (0, 0, 0, 1)), Rooted(Row([4])), Rooted(Row([9]))).terms(5), ([5], "end"))
